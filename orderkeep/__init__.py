@@ -1,0 +1,1 @@
+"""Orderkeep: an order that keeps its ties."""
