@@ -58,3 +58,10 @@ def is_tie_among(places, tie):
     if not isinstance(tie, tuple) or len(tie) != 2:
         return False
     return all([is_name(end) and end in places for end in tie])
+
+
+def lists_things(web, thing):
+    if not isinstance(thing, list):
+        return False
+    places = places_of(web[0])
+    return all([is_name(part) and part in places for part in thing])
