@@ -1,8 +1,7 @@
 """Orders of a web, in which every tie goes forward."""
 
-from orderkeep.errors import Ring
 from orderkeep.reach import priors_of_all
-from orderkeep.rings import ring_of
+from orderkeep.rings import refuse_ring
 from orderkeep.webs import lists_things, places_of
 
 
@@ -16,9 +15,7 @@ def is_order(web, thing):
 
 
 def order_anew(web):
-    ring = ring_of(web)
-    if ring is not None:
-        raise Ring(ring)
+    refuse_ring(web)
     table = priors_of_all(web)
     told = {}
     while len(told) < len(table):

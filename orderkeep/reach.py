@@ -4,17 +4,17 @@ from orderkeep.webs import nexts, priors
 
 
 def behinds(web, one):
-    reached = steps_from(nexts_of_all(web), one)
+    reached = steps_from(nexts_of_all(web), [one])
     return [thing for thing in web[0] if thing in reached]
 
 
 def aheads(web, one):
-    reaching = steps_from(priors_of_all(web), one)
+    reaching = steps_from(priors_of_all(web), [one])
     return [thing for thing in web[0] if thing in reaching]
 
 
 def way(web, one, other):
-    left = steps_from(priors_of_all(web), other)
+    left = steps_from(priors_of_all(web), [other])
     if one not in left:
         return None
     told = [one]
@@ -43,9 +43,11 @@ def priors_of_all(web):
     return table
 
 
-def steps_from(table, start):
-    steps = {start: 0}
-    edge = [start]
+def steps_from(table, starts):
+    steps = {}
+    for start in starts:
+        steps[start] = 0
+    edge = list(starts)
     while len(edge) > 0:
         further = []
         for thing in edge:

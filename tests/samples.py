@@ -1,6 +1,6 @@
-"""What several tests look at: strange things, great webs, all webs of a few things."""
+"""What several tests look at: strange things, great webs, all webs of a few things and their ways, a house."""
 
-from itertools import combinations
+from itertools import combinations, permutations
 
 LETTERS = "abcdefghijklmnopqrstuvwxyz"
 
@@ -39,3 +39,34 @@ def all_webs(names, loops):
     ends = [(one, other) for one in names for other in names if loops or one != other]
     for bits in range(1 << len(ends)):
         yield (tuple(names), tuple(tie for k, tie in enumerate(ends) if bits >> k & 1))
+
+
+def webs_without_ring(names):
+    """Every web of these things that has an order; the ties stand from the last place to the first."""
+    for things, ties in all_webs(names, False):
+        if plain_orders((things, ties)):
+            yield (things, ties[::-1])
+
+
+def plain_orders(web):
+    """All orders of a web, by the words."""
+    return [list(some) for some in permutations(web[0])
+            if all(some.index(one) < some.index(other) for one, other in web[1])]
+
+
+def plain_ways(web):
+    """All ways of a web without a ring: things told once at the most, each tied to the next."""
+    return [list(some) for count in range(1, len(web[0]) + 1) for some in permutations(web[0], count)
+            if all(pair in web[1] for pair in zip(some, some[1:]))]
+
+
+def deep_knots():
+    """Six groups, one within another, each with a thing ahead and one behind; and a group without children."""
+    groups = ["ga", "gb", "gc", "gd", "ge", "gf"]
+    knots = [("", ("bare", "xa", "ga", "ya"))]
+    for depth, group in enumerate(groups):
+        inner = groups[depth + 1:depth + 2]
+        letter = LETTERS[depth + 1]
+        knots.append((group, ("x" + letter, *inner, "y" + letter)))
+    # Knots may stand in any order behind the top.
+    return (knots[0], ("bare", ()), *knots[:0:-1])

@@ -3,13 +3,17 @@
 import unittest
 from itertools import product
 
+from orderkeep.depths import deepest, depths
 from orderkeep.errors import Ring
 from orderkeep.hanging import hangs
+from orderkeep.layers import layers, longest
+from orderkeep.moves import moves_of
 from orderkeep.orders import order_anew
 from orderkeep.reach import aheads, behinds, way
 from orderkeep.rings import ring_by, ring_of
+from orderkeep.stretch import stretch
 from orderkeep.webs import nexts, priors, web_of
-from tests.samples import all_webs
+from tests.samples import all_webs, plain_orders
 
 NAMES = {"a": "z", "b": "y", "c": "x"}
 
@@ -20,25 +24,38 @@ def called(thing):
     return NAMES.get(thing, thing)
 
 
-def anew(web):
+def told(ask, *handed):
+    """What is told, or the ring with which it is refused."""
     try:
-        return order_anew(web)
+        return ask(*handed)
     except Ring as error:
         return error.ring
 
 
 class CalledTest(unittest.TestCase):
+    def same(self, ask, *handed):
+        self.assertEqual(told(ask, *called(handed)), called(told(ask, *handed)))
+
     def test_called_otherwise_all_is_told_alike(self):
         for web in all_webs(["b", "a", "c"], True):
-            other_web = web_of(*called(web))
-            for ask in (ring_of, anew):
-                self.assertEqual(ask(other_web), called(ask(web)))
+            self.assertEqual(web_of(*called(web)), called(web))
+            for ask in (ring_of, order_anew, layers, longest):
+                self.same(ask, web)
+            for ask in (depths, deepest):
+                self.same(ask, web, [2, -1, 1])
             for one in web[0]:
                 for ask in (nexts, priors, behinds, aheads):
-                    self.assertEqual(ask(other_web, NAMES[one]), called(ask(web, one)))
+                    self.same(ask, web, one)
             for one, other in product(web[0], repeat=2):
                 for ask in (way, ring_by, hangs):
-                    self.assertEqual(ask(other_web, NAMES[one], NAMES[other]), called(ask(web, one, other)))
+                    self.same(ask, web, one, other)
+
+    def test_a_tie_laid(self):
+        for web in all_webs(["b", "a", "c"], False):
+            for order in plain_orders(web):
+                for one, other in product(web[0], repeat=2):
+                    for ask in (stretch, moves_of):
+                        self.same(ask, web, order, one, other)
 
 
 if __name__ == "__main__":
