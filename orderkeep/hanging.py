@@ -1,7 +1,7 @@
 """Whether a thing hangs on another one: told with what shows it, and looked at."""
 
 from orderkeep.reach import behinds, way
-from orderkeep.webs import lists_things, places_of
+from orderkeep.webs import are_unlike, lists_things, places_of
 
 
 def hangs(web, one, other):
@@ -32,6 +32,6 @@ def is_way(web, one, other, things):
 
 def is_shut(web, one, other, things):
     shut = places_of(things)
-    if len(shut) != len(things) or one not in shut or other in shut:
+    if not are_unlike(things) or one not in shut or other in shut:
         return False
     return all([tie[1] in shut for tie in web[1] if tie[0] in shut])

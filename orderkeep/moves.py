@@ -2,7 +2,7 @@
 
 from orderkeep.names import is_name, is_whole
 from orderkeep.stretch import stretch
-from orderkeep.webs import places_of
+from orderkeep.webs import are_unlike, places_of
 
 
 def moves_of(web, order, one, other):
@@ -36,7 +36,7 @@ def are_moves(order, told):
         return False
     olds = [move[1] for move in told]
     # Each stands at its old, so that unlike olds are unlike things.
-    return len(set(olds)) == len(olds) and sorted([move[2] for move in told]) == sorted(olds)
+    return are_unlike(olds) and sorted([move[2] for move in told]) == sorted(olds)
 
 
 def is_move(places, move):

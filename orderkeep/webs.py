@@ -41,6 +41,10 @@ def are_things(things):
     # Names first: what is no name may be nothing that a dict can hold.
     if not all([is_name(thing) for thing in things]):
         return False
+    return are_unlike(things)
+
+
+def are_unlike(things):
     return len(places_of(things)) == len(things)
 
 

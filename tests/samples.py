@@ -9,6 +9,16 @@ class Odd:
     pass
 
 
+class Same:
+    """Equal to whatever it is held against, and yet no name, word or number."""
+
+    def __eq__(self, other):
+        return True
+
+    def __hash__(self):
+        return 0
+
+
 def nested(depth):
     inner = "a"
     for turn in range(depth):
@@ -19,8 +29,8 @@ def nested(depth):
 def strange_things():
     """Things of other kinds than a name, a whole number, a list or a tuple of names."""
     return [
-        None, True, False, 1.5, b"a", {}, {"a": "b"}, {"a"}, frozenset(["a"]), Odd(), Odd, len,
-        [[]], [()], [["a"]], ((),), (["a"],), [{}], [None], (None,), nested(20), nested(19),
+        None, True, False, 1.5, b"a", {}, {"a": "b"}, {"a"}, frozenset(["a"]), Odd(), Odd, Same(), len,
+        [Same()], [[]], [()], [["a"]], ((),), (["a"],), [{}], [None], (None,), nested(20), nested(19),
     ]
 
 
@@ -58,6 +68,20 @@ def plain_ways(web):
     """All ways of a web without a ring: things told once at the most, each tied to the next."""
     return [list(some) for count in range(1, len(web[0]) + 1) for some in permutations(web[0], count)
             if all(pair in web[1] for pair in zip(some, some[1:]))]
+
+
+def plain_way(web, one, other):
+    """The told way by the words: of all lists of unlike things, the fewest first, then by places."""
+    if one == other:
+        return [one]
+    between = [thing for thing in web[0] if thing not in (one, other)]
+    for count in range(len(between) + 1):
+        # permutations come in the order of places, as between does
+        for some in permutations(between, count):
+            found = [one, *some, other]
+            if all(pair in web[1] for pair in zip(found, found[1:])):
+                return found
+    return None
 
 
 def deep_knots():

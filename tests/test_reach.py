@@ -1,23 +1,8 @@
 import unittest
-from itertools import permutations
 
 from orderkeep.reach import aheads, behinds, way
 from orderkeep.webs import web_of
-from tests.samples import all_webs, forward_ties, many_names
-
-
-def plain_way(web, one, other):
-    """The told way by the words: of all lists of unlike things, the fewest first, then by places."""
-    if one == other:
-        return [one]
-    between = [thing for thing in web[0] if thing not in (one, other)]
-    for count in range(len(between) + 1):
-        # permutations come in the order of places, as between does
-        for some in permutations(between, count):
-            found = [one, *some, other]
-            if all(pair in web[1] for pair in zip(found, found[1:])):
-                return found
-    return None
+from tests.samples import all_webs, forward_ties, many_names, plain_way
 
 
 class ReachTest(unittest.TestCase):

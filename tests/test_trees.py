@@ -2,6 +2,7 @@ import unittest
 from itertools import product
 
 from orderkeep.trees import children, knot_of, parting, within
+from tests.houses_by_words import lies_within, plain_parting
 from tests.samples import deep_knots
 
 DEEP = (deep_knots(), (), (), ())
@@ -11,20 +12,6 @@ TREE = (
     (("c", "a"), ("z", "w")), (("a", "c"),), (("first", "c"),),
 )
 UNITS = ["c", "g", "f", "k", "z", "y", "e", "m", "a", "h", "w"]
-
-
-def lies_within(house, one, other):
-    """Whether one lies within other, by the words: it is it, or stands in a unit that does."""
-    if one == other:
-        return True
-    home = [name for name, row in house[0] if one in row][0]
-    return home != "" and lies_within(house, home, other)
-
-
-def plain_parting(house, one, other):
-    """By the words: the knots, and two unlike children of them, within which the two lie."""
-    return [(name, first, second) for name, row in house[0] for first, second in product(row, repeat=2)
-            if first != second and lies_within(house, one, first) and lies_within(house, other, second)]
 
 
 class KnotsTest(unittest.TestCase):
