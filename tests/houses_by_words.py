@@ -63,7 +63,7 @@ def free_wants(house):
 
 
 def all_steps(house):
-    """Each step of a house, be it the first such or not, with its knot and the children with which it begins and ends."""
+    """Each step of a house, be it the first such or not, with its knot and the children where it begins and ends."""
     steps = {("tie", *tie): plain_parting(house, *tie)[0] for tie in house[1]}
     for word, unit in house[3]:
         steps.update(steps_of_want(house, word, unit))
@@ -115,7 +115,8 @@ def plain_ring_of_group(house, members):
     ties = plain_view(house, knot)[1]
     others = [child for child in row if child not in members]
     for count in range(1, len(others) + 1):
-        ways = [(one, *some, other) for one, other in product(members, repeat=2) for some in permutations(others, count)]
+        ends = list(product(members, repeat=2))
+        ways = [(one, *some, other) for one, other in ends for some in permutations(others, count)]
         ways = [way for way in ways if all(pair in ties for pair in zip(way, way[1:]))]
         if ways:
             return plain_steps(house, knot, min(ways, key=lambda way: [row.index(child) for child in way]))

@@ -157,7 +157,8 @@ class ShowsTest(unittest.TestCase):
     def test_a_way_that_is_none_or_weighs_something_else(self):
         good = [6, 5, 3, 1]
         for way in [
-            [], ["a"], ["c"], ["a", "c"], ["b", "c"], ["c", "b", "a"], ["d"], ["a", "b", "c", "c"], ["a", "b", "c", "a"],
+            [], ["a"], ["c"], ["a", "c"], ["b", "c"], ["c", "b", "a"], ["d"], ["a", "b", "c", "c"],
+            ["a", "b", "c", "a"],
             ["b", "b", "b"], ["c", "c"], ["d", "a"], ["a", "d"], ["a", "b", "x"], ["a", "b", "c", ""],
         ]:
             self.assertIs(self.shows((6, way, good)), False, way)
@@ -177,7 +178,9 @@ class ShowsTest(unittest.TestCase):
         web = web_of(["a"], [])
         self.assertIs(shows_deepest(web, [1], (1, ["a"], [1])), True)
         self.assertIs(shows_deepest(web, [0], (0, ["a"], [0])), True)
-        for told in [(True, ["a"], [1]), (1, ["a"], [True]), (True, ["a"], [True]), (1.0, ["a"], [1]), (1, ["a"], [1.0])]:
+        for told in [
+            (True, ["a"], [1]), (1, ["a"], [True]), (True, ["a"], [True]), (1.0, ["a"], [1]), (1, ["a"], [1.0]),
+        ]:
             self.assertIs(shows_deepest(web, [1], told), False, told)
         for told in [(False, ["a"], [0]), (0, ["a"], [False])]:
             self.assertIs(shows_deepest(web, [0], told), False, told)

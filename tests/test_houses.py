@@ -305,8 +305,10 @@ class WhateverTest(HousesCase):
 
     def test_whatever_thing(self):
         for thing in OTHER_KINDS + strange_things() + [
-            (), [], EMPTY[:3], EMPTY + ((),), EMPTY[0], list(EMPTY), (EMPTY,), ((), (), (), ()), ("", (), (), ()), "house",
-            [[("", ())], [], [], []], ((("", ()),), (), ()), (((),), (), (), ()), {"": ()}, ((("", ()),), (), (), (), ()),
+            (), [], EMPTY[:3], EMPTY + ((),), EMPTY[0], list(EMPTY), (EMPTY,), ((), (), (), ()), ("", (), (), ()),
+            "house",
+            [[("", ())], [], [], []], ((("", ()),), (), ()), (((),), (), (), ()), {"": ()},
+            ((("", ()),), (), (), (), ()),
         ]:
             self.assertIs(is_house(thing), False, repr(thing))
 

@@ -173,9 +173,11 @@ class LetsMovesTest(unittest.TestCase):
 
     def test_whatever_thing(self):
         for told in [
-            tuple(TOLD), [list(move) for move in TOLD], {move[0]: move[1:] for move in TOLD}, TOLD[0], "bcdef", "", 0, 1,
-            None, True, (), {}, TOLD + [()], TOLD + [[]], TOLD + [("g",)], TOLD + [("g", 6)], TOLD + [("g", 6, 6, 6)],
-            TOLD + [["g", 6, 6]], TOLD + ["g66"], TOLD + [None], TOLD + [{}], TOLD + [6], [TOLD], TOLD + [(["g"], 6, 6)],
+            tuple(TOLD), [list(move) for move in TOLD], {move[0]: move[1:] for move in TOLD}, TOLD[0], "bcdef", "", 0,
+            1, None, True, (), {}, TOLD + [()], TOLD + [[]], TOLD + [("g",)], TOLD + [("g", 6)],
+            TOLD + [("g", 6, 6, 6)], TOLD + [["g", 6, 6]], TOLD + ["g66"], TOLD + [None], TOLD + [{}], TOLD + [6],
+            [TOLD],
+            TOLD + [(["g"], 6, 6)],
             TOLD + [(6, "g", 6)], TOLD + [("g", [6], 6)], TOLD + [("g", 6, (6,))], TOLD + [(None, 6, 6)],
             TOLD + [(6, 6, 6)],
         ] + strange_things():

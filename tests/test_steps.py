@@ -113,8 +113,8 @@ class GroupRingToldTest(unittest.TestCase):
         self.assertEqual(ring_of_group(BRANCHES, ["n", "z", "m"]), [("tie", "z", "y"), ("tie", "y", "n")])
         self.assertEqual(ring_of_group(BRANCHES, ["n", "x", "z", "m"]), [("tie", "x", "w"), ("tie", "w", "n")])
         self.assertEqual(ring_of_group(BRANCHES, ["w", "y", "m"]), [("tie", "m", "x"), ("tie", "x", "w")])
-        house = house_of([("", ("a", "c", "b", "e", "d"))], [("c", "d"), ("b", "d"), ("a", "b"), ("a", "c"), ("c", "e")],
-                         [], [])
+        ties = [("c", "d"), ("b", "d"), ("a", "b"), ("a", "c"), ("c", "e")]
+        house = house_of([("", ("a", "c", "b", "e", "d"))], ties, [], [])
         self.assertEqual(ring_of_group(house, ["d", "e", "a"]), [("tie", "a", "c"), ("tie", "c", "e")])
         self.assertEqual(ring_of_group(house, ["d", "a"]), [("tie", "a", "c"), ("tie", "c", "d")])
 
@@ -217,7 +217,8 @@ class TieRingTest(unittest.TestCase):
     def test_other_right_ones(self):
         self.assertIs(self.looks(self.RING), True)
         for second, third, fourth, fifth in product("qp", "pq", "sh", "sh"):
-            ring = [("tie", "a", "z"), ("tie", "z", second), ("tie", third, "b"), ("tie", "b", fourth), ("tie", fifth, "a")]
+            ring = self.RING[:1] + [
+                ("tie", "z", second), ("tie", third, "b"), ("tie", "b", fourth), ("tie", fifth, "a")]
             self.assertIs(self.looks(ring), True, ring)
         longer = [("tie", "n", "m"), ("tie", "m", "z"), ("tie", "z", "y"), ("tie", "y", "n")]
         self.assertIs(is_tie_ring(BRANCHES, "n", "m", longer), True)
@@ -255,8 +256,8 @@ class TieRingTest(unittest.TestCase):
 
     def test_another_first_step(self):
         for step in [
-            ("tie", "z", "a"), ("tie", "h", "z"), ("tie", "b", "z"), ("first", "a", "z"), ("last", "a", "z"), ("tie", "a", "g"),
-            ("", "a", "z"), ("tie", "", ""), ("wait", "a", "z"),
+            ("tie", "z", "a"), ("tie", "h", "z"), ("tie", "b", "z"), ("first", "a", "z"), ("last", "a", "z"),
+            ("tie", "a", "g"), ("", "a", "z"), ("tie", "", ""), ("wait", "a", "z"),
         ]:
             self.assertIs(self.looks([step] + self.RING[1:]), False, step)
         self.assertIs(self.looks(self.RING[1:] + self.RING[:1]), False)
@@ -265,7 +266,8 @@ class TieRingTest(unittest.TestCase):
         self.assertIs(is_tie_ring(LINE, "r", "p", [("tie", "r", "p"), ("tie", "p", "b"), ("tie", "b", "s")]), True)
 
     def test_a_step_that_is_none(self):
-        for step in [("tie", "z", "g"), ("tie", "z", "b"), ("tie", "q", "z"), ("tie", "z", "x"), ("tie", "", "q"), ("tie", "z", "")]:
+        for pair in [("z", "g"), ("z", "b"), ("q", "z"), ("z", "x"), ("", "q"), ("z", "")]:
+            step = ("tie", *pair)
             self.assertIs(self.looks([self.RING[0], step] + self.RING[2:]), False, step)
         # a waiting one is no step
         self.assertIs(is_tie_ring(LINE, "g", "b", [("tie", "g", "b"), ("tie", "b", "p")]), False)
@@ -280,8 +282,8 @@ class TieRingTest(unittest.TestCase):
     def test_steps_that_do_not_meet(self):
         ring = self.RING
         for other in [
-            [ring[0], ring[2], ring[1], ring[3], ring[4]], ring[:1] + ring[2:], ring[:2] + ring[3:], ring[:3] + ring[4:],
-            ring[:1] + ring[:0:-1], [ring[0], ring[1], ring[4]],
+            [ring[0], ring[2], ring[1], ring[3], ring[4]], ring[:1] + ring[2:], ring[:2] + ring[3:],
+            ring[:3] + ring[4:], ring[:1] + ring[:0:-1], [ring[0], ring[1], ring[4]],
         ]:
             self.assertIs(self.looks(other), False, other)
 
@@ -404,9 +406,12 @@ class WhateverTest(unittest.TestCase):
             first, second = good
             for ring in [
                 tuple(good), [list(first), second], [first, list(second)], [first + ("",), second], [first[:2], second],
-                [first, second[:2]], [first, second + ("b",)], [good], good + [None], good + [()], good + [[]], good + [""],
-                {0: first, 1: second}, dict(enumerate(good)), first, " ".join(first), "", "tie", 0, 1, 2, None, True, False,
-                (), {}, [None, None], [first, None], [None, second], [first, 0], [True, second], [first, {}], [first, ()],
+                [first, second[:2]], [first, second + ("b",)], [good], good + [None], good + [()], good + [[]],
+                good + [""],
+                {0: first, 1: second}, dict(enumerate(good)), first, " ".join(first), "", "tie", 0, 1, 2, None, True,
+                False,
+                (), {}, [None, None], [first, None], [None, second], [first, 0], [True, second], [first, {}],
+                [first, ()],
                 [first, "tie"], ["tie", second], [first, ("tie", ["p"], "b")], [first, (["tie"], "p", "b")],
                 [first, ("tie", "p", None)], [first, ("tie", 0, "b")], [(None,) + first[1:], second],
                 [first[:1] + ({},) + first[2:], second], [first[:2] + ([],), second], [first, second, second],

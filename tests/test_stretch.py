@@ -65,7 +65,8 @@ class StretchTest(unittest.TestCase):
 
     def test_the_ring_by_one_and_other(self):
         for one, other, ring in [
-            ("d", "a", ["d", "a", "b"]), ("g", "a", ["g", "a", "b", "d"]), ("f", "c", ["f", "c"]), ("f", "e", ["f", "e"]),
+            ("d", "a", ["d", "a", "b"]), ("g", "a", ["g", "a", "b", "d"]), ("f", "c", ["f", "c"]),
+            ("f", "e", ["f", "e"]),
         ]:
             for turn in range(2):
                 with self.assertRaises(Ring) as caught:
