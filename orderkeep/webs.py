@@ -36,12 +36,14 @@ def places_of(things):
 
 
 def are_things(things):
-    if not isinstance(things, (list, tuple)) or len(things) > MOST_THINGS:
+    return are_unlike_names(things) and len(things) <= MOST_THINGS
+
+
+def are_unlike_names(things):
+    if not isinstance(things, (list, tuple)):
         return False
     # Names first: what is no name may be nothing that a dict can hold.
-    if not all([is_name(thing) for thing in things]):
-        return False
-    return are_unlike(things)
+    return all([is_name(thing) for thing in things]) and are_unlike(things)
 
 
 def are_unlike(things):

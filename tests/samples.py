@@ -84,6 +84,21 @@ def plain_way(web, one, other):
     return None
 
 
+def plain_moves_let(web, order, one, other, told):
+    """Whether moves are let by, by the words: of a list of tuples of a thing and two whole numbers."""
+    things = [thing for thing, old, new in told]
+    if len(set(things)) != len(things):
+        return False
+    if any(old not in range(len(order)) or order[old] != thing for thing, old, new in told):
+        return False
+    if sorted(old for thing, old, new in told) != sorted(new for thing, old, new in told):
+        return False
+    at = {thing: place for place, thing in enumerate(order)}
+    at.update({thing: new for thing, old, new in told})
+    ties = [tie for tie in web[1] if set(tie) & set(things)] + [(one, other)]
+    return all(at[start] < at[end] for start, end in ties)
+
+
 def deep_knots():
     """Six groups, one within another, each with a thing ahead and one behind; and a group without children."""
     groups = ["ga", "gb", "gc", "gd", "ge", "gf"]

@@ -7,7 +7,7 @@ from orderkeep.orders import is_order
 from orderkeep.rings import ring_by
 from orderkeep.stretch import stretch
 from orderkeep.webs import web_of
-from tests.samples import forward_ties, many_names, strange_things
+from tests.samples import forward_ties, many_names, plain_moves_let, strange_things
 from tests.test_stretch import ORDER, WEB, each_tie_laid
 
 TOLD = [("b", 1, 4), ("c", 2, 1), ("d", 3, 5), ("e", 4, 2), ("f", 5, 3)]
@@ -15,21 +15,6 @@ TOLD = [("b", 1, 4), ("c", 2, 1), ("d", 3, 5), ("e", 4, 2), ("f", 5, 3)]
 
 def with_tie(web, one, other):
     return (web[0], web[1] + ((one, other),))
-
-
-def lets_by_the_words(web, order, one, other, told):
-    """Of a list of tuples of a thing and two whole numbers."""
-    things = [thing for thing, old, new in told]
-    if len(set(things)) != len(things):
-        return False
-    if any(old not in range(len(order)) or order[old] != thing for thing, old, new in told):
-        return False
-    if sorted(old for thing, old, new in told) != sorted(new for thing, old, new in told):
-        return False
-    at = {thing: place for place, thing in enumerate(order)}
-    at.update({thing: new for thing, old, new in told})
-    ties = [tie for tie in web[1] if set(tie) & set(things)] + [(one, other)]
-    return all(at[start] < at[end] for start, end in ties)
 
 
 def led_by_the_words(web, order, one, other):
@@ -121,7 +106,7 @@ class LetsMovesTest(unittest.TestCase):
                 for some in permutations(range(4), count):
                     for news in permutations(some):
                         told = [(order[old], old, new) for old, new in zip(some, news)]
-                        by_words = lets_by_the_words(web, order, one, other, told)
+                        by_words = plain_moves_let(web, order, one, other, told)
                         self.assertIs(lets_moves(web, order, one, other, told), by_words, (one, other, told))
                         if by_words:
                             self.assertIs(is_order(with_tie(web, one, other), moved(order, told)), True)
@@ -132,7 +117,7 @@ class LetsMovesTest(unittest.TestCase):
         each = list(product(order, range(-1, 4), range(-1, 4)))
         for told in [[move] for move in each] + [list(pair) for pair in product(each, repeat=2)]:
             for one, other in (("a", "b"), ("b", "c")):
-                by_words = lets_by_the_words(web, order, one, other, told)
+                by_words = plain_moves_let(web, order, one, other, told)
                 self.assertIs(lets_moves(web, order, one, other, told), by_words, (one, other, told))
 
     def test_a_tie_that_goes_back(self):
