@@ -276,17 +276,21 @@ def all_deeds(house):
 
 
 def made_deed(chance, house, name):
-    """A deed of units of the house, of the top, and of the new name; it may be refused."""
-    units = units_of(house) or [name]
+    """A deed of units of the house, of its knots, and of the new name; it may be refused."""
+    units, knots = units_of(house) or [name], [knot for knot, row in house[0]]
     one, other = chance.choice(units), chance.choice(units)
     some = chance.choice(("first", "last"))
-    row = list(chance.choice([row for knot, row in house[0] if row] or [(name,)]))
-    members = chance.sample(row, min(len(row), chance.randint(1, 3)))
-    knot = chance.choice([knot for knot, held in house[0]])
-    gone = chance.choice(list(house[1] + house[2]) or [(one, other)])
-    wanted = chance.choice(list(house[3]) or [(some, one)])
-    return chance.choice([
-        ("thing", name, knot), ("thing", name, knot), ("tie", one, other), ("tie", one, other), ("wait", one, other),
-        ("wait", one, other), ("wait", one, other), ("untie", *gone), ("drop", one), ("group", name, members),
-        ("open", chance.choice([held for held, inner in house[0]][1:] or units)), ("want", some, one),
-        ("unwant", *wanted), ("tie", one, other), ("thing", one, other), ("untie", one, other), ("open", one)])
+    row = chance.choice([row for knot, row in house[0] if row] or [(name,)])
+    often = {"thing": 5, "tie": 6, "wait": 6, "untie": 3, "group": 2, "want": 2, "unwant": 2, "drop": 1, "open": 1}
+    word = chance.choice([word for word, times in often.items() for turn in range(times)])
+    return {
+        "thing": ("thing", name, chance.choice(knots)),
+        "tie": ("tie", one, other),
+        "wait": ("wait", one, other),
+        "untie": ("untie", *chance.choice(list(house[1] + house[2]) or [(one, other)])),
+        "drop": ("drop", one),
+        "group": ("group", name, chance.sample(row, min(len(row), chance.randint(1, 3)))),
+        "open": ("open", chance.choice(knots[1:] or units)),
+        "want": ("want", some, one),
+        "unwant": ("unwant", *chance.choice(list(house[3]) or [(some, one)])),
+    }[word]

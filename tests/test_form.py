@@ -22,6 +22,9 @@ NEVER_WORDS = set(
     """type typing typing_extensions enum Enum IntEnum StrEnum Flag IntFlag Generic Protocol ABC ABCMeta namedtuple
     NamedTuple TypedDict TYPE_CHECKING abstractmethod""".split())
 NEVER_PARTS = ["dataclass", "overload", "contextmanager"]
+NEVER_VALUES = set(
+    """items keys values pop update append clear extend insert remove reverse setdefault sort args encode
+    format""".split())
 NEVER_NAMES = set("register mro elements open input version_info with_traceback add_note".split())
 ALLOWED_NODES = tuple(
     getattr(ast, name) for name in
@@ -172,23 +175,67 @@ class CodeTest(unittest.TestCase):
                 for part in node.body:
                     self.assertIsInstance(part, (ast.FunctionDef, ast.Pass), where)
 
-    def test_names(self):
+    def test_defaults_are_plain_values(self):
         for node, where, tree in self.each_node():
+            if isinstance(node, ast.arguments):
+                for default in node.defaults:
+                    self.assertTrue(plain_value(default), where)
+                    self.assertNotIn(ast.Name, [part.__class__ for part in ast.walk(default)], where)
+
+    def test_methods_and_values_of_objects(self):
+        methods, values = set(), set()
+        for node, where, tree in self.each_node():
+            if isinstance(node, ast.ClassDef):
+                own = [part.name for part in node.body if isinstance(part, ast.FunctionDef)]
+                self.assertEqual(len(own), len(set(own)), where)
+                methods.update(own)
+            if isinstance(node, ast.Attribute) and isinstance(node.ctx, ast.Store):
+                self.assertIsInstance(node.value, ast.Name, where)
+                values.add(node.attr)
+        self.assertEqual(methods & values, set())
+        self.assertEqual(values & NEVER_VALUES, set())
+
+    def test_dicts_and_lists_of_a_top_are_only_read(self):
+        for name, tree in trees().items():
+            kept = set(node.targets[0].id for node in tree.body
+                       if isinstance(node, ast.Assign) and isinstance(node.value, (ast.Dict, ast.List)))
+            for node in tree.body:
+                if isinstance(node, ast.Assign) and isinstance(node.value, (ast.Dict, ast.List)):
+                    inner = [part for part in ast.walk(node.value) if part != node.value]
+                    self.assertFalse([part for part in inner if isinstance(part, (ast.Dict, ast.List))], name)
+            read = set()
+            for node in ast.walk(tree):
+                if isinstance(node, ast.Subscript) and isinstance(node.ctx, ast.Load):
+                    read.add(node.value)
+                if isinstance(node, ast.Compare):
+                    read.update(node.comparators)
+                if isinstance(node, ast.Attribute) and node.attr in ("get", "items", "keys", "values"):
+                    read.add(node.value)
+            for node in ast.walk(tree):
+                if isinstance(node, ast.Name) and node.id in kept and isinstance(node.ctx, ast.Load):
+                    self.assertIn(node, read, (name, node.lineno))
+
+    def test_names(self):
+        for name, tree in trees().items():
             taken = set(alias.name for one in imports(tree) for alias in one.names)
             taken = taken | BUILTINS | set(one.name for one in tree.body if isinstance(one, ast.ClassDef))
-            if isinstance(node, ast.Name):
-                self.assertNotRegex(node.id, r"^_", where)
-                self.assertNotIn(node.id, NEVER_NAMES, where)
-                if isinstance(node.ctx, ast.Load):
-                    self.assertNotIn(node.id, BUILTINS - ALLOWED_BUILTINS, where)
-                else:
-                    self.assertNotIn(node.id, taken, where)
-            if isinstance(node, ast.arg):
-                self.assertNotRegex(node.arg, r"^_", where)
-                self.assertNotIn(node.arg, taken, where)
-            if isinstance(node, ast.FunctionDef) and node.name not in TWO_UNDERSCORES:
-                self.assertNotRegex(node.name, r"^_", where)
-                self.assertNotIn(node.name, NEVER_NAMES, where)
+            for node in ast.walk(tree):
+                self.look_at_name(node, taken, (name, getattr(node, "lineno", 0)))
+
+    def look_at_name(self, node, taken, where):
+        if isinstance(node, ast.Name):
+            self.assertNotRegex(node.id, r"^_", where)
+            self.assertNotIn(node.id, NEVER_NAMES, where)
+            if isinstance(node.ctx, ast.Load):
+                self.assertNotIn(node.id, BUILTINS - ALLOWED_BUILTINS, where)
+            else:
+                self.assertNotIn(node.id, taken, where)
+        if isinstance(node, ast.arg):
+            self.assertNotRegex(node.arg, r"^_", where)
+            self.assertNotIn(node.arg, taken, where)
+        if isinstance(node, ast.FunctionDef) and node.name not in TWO_UNDERSCORES:
+            self.assertNotRegex(node.name, r"^_", where)
+            self.assertNotIn(node.name, NEVER_NAMES, where)
 
     def test_methods(self):
         own = set(node.name for node, where, tree in self.each_node() if isinstance(node, ast.FunctionDef))
