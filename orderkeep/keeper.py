@@ -2,12 +2,13 @@
 
 from orderkeep.deeds import behind
 from orderkeep.errors import NoRedo, NoUndo
+from orderkeep.houses import EMPTY
 
 
 class Keeper:
-    # The default is EMPTY, written out: a default is to be a plain value.
-    def __init__(self, house=((("", ()),), (), (), ())):
-        self.now = house
+    # None stands for EMPTY, which as a tuple is no plain value for a default.
+    def __init__(self, house=None):
+        self.now = EMPTY if house is None else house
         self.past = []
         self.undone = []
 

@@ -71,6 +71,22 @@ def plain_value(node):
     return isinstance(node, (ast.Constant, ast.Name))
 
 
+def one_plain_value(node):
+    if isinstance(node, ast.UnaryOp) and isinstance(node.op, ast.USub):
+        return isinstance(node.operand, ast.Constant) and node.operand.value.__class__ == int
+    return isinstance(node, ast.Constant) and node.value.__class__ in (int, str, bool, None.__class__)
+
+
+def wrong_defaults(tree):
+    """The rows of the defaults, of defs, methods and lambdas, that are not one whole number, text, truth or None."""
+    rows = []
+    for node in ast.walk(tree):
+        if isinstance(node, ast.arguments):
+            defaults = node.defaults + [part for part in node.kw_defaults if part is not None]
+            rows.extend(part.lineno for part in defaults if not one_plain_value(part))
+    return sorted(rows)
+
+
 class FilesTest(unittest.TestCase):
     def test_plain_files_alone(self):
         self.assertIn("__init__.py", files())
@@ -175,12 +191,21 @@ class CodeTest(unittest.TestCase):
                 for part in node.body:
                     self.assertIsInstance(part, (ast.FunctionDef, ast.Pass), where)
 
-    def test_defaults_are_plain_values(self):
-        for node, where, tree in self.each_node():
-            if isinstance(node, ast.arguments):
-                for default in node.defaults:
-                    self.assertTrue(plain_value(default), where)
-                    self.assertNotIn(ast.Name, [part.__class__ for part in ast.walk(default)], where)
+    def test_defaults_are_one_plain_value_each(self):
+        for name, tree in trees().items():
+            self.assertEqual(wrong_defaults(tree), [], name)
+
+    def test_the_look_at_defaults(self):
+        for default in ("0", "60", "-1", "''", "'first'", "True", "False", "None"):
+            for text in (f"def a(b, c={default}):\n    pass", f"class A:\n    def b(self, c={default}):\n        pass"):
+                self.assertEqual(wrong_defaults(ast.parse(text)), [], text)
+        for default in ("()", "(1,)", "((('', ()),), (), (), ())", "[]", "{}", "{'a': 1}", "EMPTY", "a.b", "len('')",
+                        "1 + 1", "-EMPTY", "-True", "not True", "1.5", "b''", "...", "f'{a}'", "lambda: 1"):
+            self.assertEqual(wrong_defaults(ast.parse(f"def a(b, c={default}):\n    pass")), [1], default)
+            self.assertEqual(wrong_defaults(ast.parse(f"def a(b=1, *, c={default}):\n    pass")), [1], default)
+            self.assertEqual(wrong_defaults(ast.parse(f"a = lambda b={default}: b")), [1], default)
+            inner = f"class A:\n    def b(self, c=None, d={default}):\n        def e(f={default}):\n            pass"
+            self.assertEqual(wrong_defaults(ast.parse(inner)), [2, 3], default)
 
     def test_methods_and_values_of_objects(self):
         methods, values = set(), set()

@@ -1,4 +1,3 @@
-import inspect
 import random
 import unittest
 
@@ -22,10 +21,18 @@ class KeeperCase(unittest.TestCase):
 class MadeTest(KeeperCase):
     def test_of_none_and_of_a_house(self):
         self.assertEqual(Keeper().house(), EMPTY)
-        self.assertEqual(Keeper(HOUSE).house(), HOUSE)
-        self.assertEqual(Keeper(house=WAITS).house(), WAITS)
-        self.assertEqual(Keeper(EMPTY).house(), EMPTY)
-        self.assertEqual(inspect.signature(Keeper).parameters["house"].default, EMPTY)
+        self.assertEqual(Keeper().house(), ((("", ()),), (), (), ()))
+        for house in (HOUSE, WAITS, EMPTY):
+            self.assertEqual(Keeper(house).house(), house)
+            self.assertEqual(Keeper(house=house).house(), house)
+
+    def test_of_none_it_does_as_of_the_empty_house(self):
+        for keeper in (Keeper(), Keeper(EMPTY), Keeper(house=EMPTY)):
+            keeper.do(("many", [("thing", "a", ""), ("group", "g", ["a"])]))
+            self.assertEqual(keeper.house(), ((("", ("g",)), ("g", ("a",))), (), (), ()))
+            keeper.undo()
+            self.assertEqual(keeper.house(), EMPTY)
+            self.refuse("NoUndo", keeper.undo)
 
     def test_nothing_to_undo_or_to_do_again(self):
         for keeper in (Keeper(), Keeper(HOUSE)):
@@ -185,6 +192,9 @@ class OwnTest(KeeperCase):
         self.refuse("NoRedo", other.redo)
         one.redo()
         self.assertEqual(one.house()[0], (("", ("a",)),))
+        # nor does one that is made later begin with what those have done
+        self.assertEqual(Keeper().house(), EMPTY)
+        self.assertEqual(EMPTY, ((("", ()),), (), (), ()))
 
     def test_a_deed_whose_lists_are_changed_later(self):
         keeper = Keeper(HOUSE)
